@@ -1,0 +1,1 @@
+"""Busyweb: flows in which no tie is idle."""

@@ -1,0 +1,74 @@
+"""Webs that several tests go through, and slow ways to the same answers."""
+
+import itertools
+import random
+
+from busyweb.webs import Web
+
+TRIANGLE = Web(3, [(0, 1), (1, 2), (2, 0)])
+# Two rings, a bridge between them, a loop, a double tie, and a place alone.
+MIXED = Web(8, [(4, 1), (1, 2), (2, 4), (2, 3), (3, 5), (5, 3), (6, 6), (5, 5)])
+LONE = Web(1, [])
+# A number of more figures than Python is willing to write out.
+VAST = 10 ** 5000
+
+
+def drawn_web(chance, many, ties):
+    return Web(many, [(chance.randrange(many), chance.randrange(many)) for each in range(ties)])
+
+
+def small_webs():
+    """Every web of at most 3 places and at most 3 ties."""
+    told = []
+    for many in (1, 2, 3):
+        pairs = list(itertools.product(range(many), repeat=2))
+        for size in range(4):
+            told.extend(Web(many, ties) for ties in itertools.product(pairs, repeat=size))
+    return told
+
+
+def large_webs():
+    """Webs of 20 places and 40 ties: drawn ones, one ring and more, one of bridges and loops."""
+    chance = random.Random(20)
+    told = [drawn_web(chance, 20, 40) for each in range(12)]
+    round_ties = [(place, (place + 1) % 20) for place in range(20)]
+    told.append(Web(20, round_ties + [(place, (place + 10) % 20) for place in range(20)]))
+    row_ties = [(place + 1, place) for place in range(19)]
+    told.append(Web(20, row_ties + [(place, place) for place in range(20)] + [(7, 7)]))
+    told.append(Web(20, [(0, 19)] * 20 + [(19, 0)] * 20))
+    return told
+
+
+def sample_webs():
+    chance = random.Random(7)
+    drawn = [drawn_web(chance, chance.randint(1, 9), chance.randint(0, 14)) for each in range(150)]
+    return [TRIANGLE, MIXED, LONE] + drawn + large_webs()
+
+
+def reached_from(ties, start):
+    """The set of places that hang together with one, by growing it till it stays."""
+    had = {start}
+    while True:
+        more = {place for ends in ties for place in ends if set(ends) & had} | had
+        if more == had:
+            return had
+        had = more
+
+
+def slow_pieces(many, ties):
+    told = []
+    for place in range(many):
+        piece = sorted(reached_from(ties, place))
+        if piece not in told:
+            told.append(piece)
+    return told
+
+
+def slow_gains(web, flow):
+    """What each place gains, straight from the words of 2.1."""
+    told = []
+    for place in range(web.many):
+        comes = sum(a for (start, end), a in zip(web.ties, flow) if end == place)
+        goes = sum(a for (start, end), a in zip(web.ties, flow) if start == place)
+        told.append(comes - goes)
+    return told
