@@ -3,14 +3,19 @@
 import itertools
 import random
 
+from busyweb.errors import FlowError, NoFlow
 from busyweb.webs import Web
 
 TRIANGLE = Web(3, [(0, 1), (1, 2), (2, 0)])
 # Two rings, a bridge between them, a loop, a double tie, and a place alone.
 MIXED = Web(8, [(4, 1), (1, 2), (2, 4), (2, 3), (3, 5), (5, 3), (6, 6), (5, 5)])
 LONE = Web(1, [])
+# Bridges alone.
+ROW = Web(4, [(1, 0), (1, 2), (3, 2)])
 # A number of more figures than Python is willing to write out.
 VAST = 10 ** 5000
+# The greatest amount of 40 figures.
+HUGE = 10 ** 40 - 1
 
 
 def drawn_web(chance, many, ties):
@@ -72,3 +77,43 @@ def slow_gains(web, flow):
         goes = sum(a for (start, end), a in zip(web.ties, flow) if start == place)
         told.append(comes - goes)
     return told
+
+
+def slow_bridges(web):
+    told = []
+    for tie, (start, end) in enumerate(web.ties):
+        others = web.ties[:tie] + web.ties[tie + 1:]
+        if end not in reached_from(others, start):
+            told.append(tie)
+    return told
+
+
+def slow_is_flow(web, flow):
+    return not any(slow_gains(web, flow))
+
+
+def slow_is_rest_flow(web, rests, k):
+    """Straight from the words of 0.4."""
+    return all(0 <= rest < k for rest in rests) and all(gained % k == 0 for gained in slow_gains(web, rests))
+
+
+def rest_lists(web, k):
+    return [list(rests) for rests in itertools.product(range(k), repeat=len(web.ties))]
+
+
+def refusal(ask, *given):
+    """The very class with which it is refused; None where it isn't."""
+    try:
+        ask(*given)
+    except FlowError as error:
+        return type(error)
+    return None
+
+
+def tie_of_refusal(ask, *given):
+    """The field of a NoFlow, in a list; None where there is no NoFlow."""
+    try:
+        ask(*given)
+    except NoFlow as error:
+        return [error.tie]
+    return None

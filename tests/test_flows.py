@@ -7,9 +7,7 @@ from busyweb.errors import BadFlow, BadPlace, BadTie
 from busyweb.flows import across, added, gain, is_busy, is_flow, times, turned_flow, within
 from busyweb.rings import free_ties, ring_of
 from busyweb.webs import Web, turned
-from samples import LONE, MIXED, TRIANGLE, VAST, sample_webs, slow_gains
-
-HUGE = 10 ** 40 - 1
+from samples import HUGE, LONE, MIXED, TRIANGLE, VAST, sample_webs, slow_gains
 
 
 def drawn_amounts(chance, web):

@@ -176,6 +176,18 @@ class Forms(unittest.TestCase):
                 if isinstance(node.func, ast.Attribute):
                     self.assertIn(node.func.attr, METHODS | own, source.at(node))
 
+    def test_numbers_and_texts(self):
+        """L27: written exponents alone, and no sign for rests within a text."""
+        for source in SOURCES:
+            for node in source.nodes(ast.BinOp, ast.AugAssign):
+                if isinstance(node.op, ast.Pow):
+                    self.assertIsInstance(node, ast.BinOp, source.at(node))
+                    self.assertIsInstance(node.right, ast.Constant, source.at(node))
+                    self.assertIn(node.right.value, range(65), source.at(node))
+            for node in source.nodes(ast.Constant):
+                if isinstance(node.value, str):
+                    self.assertNotIn("%", node.value, source.at(node))
+
 
 if __name__ == "__main__":
     unittest.main()

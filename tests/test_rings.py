@@ -8,9 +8,8 @@ from busyweb.errors import BadTie
 from busyweb.flows import added, gain, is_flow, times
 from busyweb.rings import bridges, forest, free_ties, ring_of, ring_through
 from busyweb.webs import Web, pieces
-from samples import LONE, MIXED, TRIANGLE, VAST, large_webs, reached_from, sample_webs, slow_pieces, small_webs
-
-ROW = Web(4, [(1, 0), (1, 2), (3, 2)])
+from samples import (LONE, MIXED, ROW, TRIANGLE, VAST, large_webs, reached_from, sample_webs, slow_bridges,
+                     slow_pieces, small_webs)
 
 
 def slow_forest(web):
@@ -20,15 +19,6 @@ def slow_forest(web):
         if end not in reached_from([web.ties[one] for one in taken], start):
             taken.append(tie)
     return taken
-
-
-def slow_bridges(web):
-    told = []
-    for tie, (start, end) in enumerate(web.ties):
-        others = web.ties[:tie] + web.ties[tie + 1:]
-        if end not in reached_from(others, start):
-            told.append(tie)
-    return told
 
 
 def is_ring_flow(web, flow):
