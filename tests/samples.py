@@ -12,6 +12,8 @@ MIXED = Web(8, [(4, 1), (1, 2), (2, 4), (2, 3), (3, 5), (5, 3), (6, 6), (5, 5)])
 LONE = Web(1, [])
 # Bridges alone.
 ROW = Web(4, [(1, 0), (1, 2), (3, 2)])
+# Each two of four places tied: three ties at each.
+FOUR = Web(4, [(0, 1), (0, 2), (3, 0), (1, 2), (1, 3), (2, 3)])
 # A number of more figures than Python is willing to write out.
 VAST = 10 ** 5000
 # The greatest amount of 40 figures.
@@ -99,6 +101,55 @@ def slow_is_rest_flow(web, rests, k):
 
 def rest_lists(web, k):
     return [list(rests) for rests in itertools.product(range(k), repeat=len(web.ties))]
+
+
+def subsets(web):
+    """Every set of the web's ties, each as an ascending list."""
+    ties = range(len(web.ties))
+    return [list(some) for size in range(len(ties) + 1) for some in itertools.combinations(ties, size)]
+
+
+def ties_carried(flow):
+    return [tie for tie, amount in enumerate(flow) if amount != 0]
+
+
+def slow_is_even(web, some):
+    """Straight from the words of 7.1."""
+    ends = [place for tie in some for place in web.ties[tie]]
+    return all(ends.count(place) % 2 == 0 for place in range(web.many))
+
+
+def slow_is_spanning(web, some):
+    """Straight from the words of 7.2: no tie of it leads back by the others, and the pieces are the web's."""
+    ties = [web.ties[tie] for tie in some]
+    rings = [at for at, ends in enumerate(ties) if ends[1] in reached_from(ties[:at] + ties[at + 1:], ends[0])]
+    return not rings and slow_pieces(web.many, ties) == slow_pieces(web.many, web.ties)
+
+
+def spanning_forests(web):
+    return [some for some in subsets(web) if slow_is_spanning(web, some)]
+
+
+def drawn_forest(chance, web):
+    """A spanning forest: the ties gone through in a drawn order, each taken that closes no ring."""
+    taken = []
+    for tie in chance.sample(range(len(web.ties)), len(web.ties)):
+        start, end = web.ties[tie]
+        if end not in reached_from([web.ties[one] for one in taken], start):
+            taken.append(tie)
+    return sorted(taken)
+
+
+def wrong_sets(web):
+    """Sets that are not ascending, have a number twice, or one that is no tie."""
+    size = len(web.ties)
+    told = [[-1], [size], [-size - 1], [size + 1], [VAST], [-VAST]]
+    if size > 0:
+        told += [[0, 0], [size - 1, size - 1], [-1, 0], [0, size], [0, VAST], [-size], [-VAST, 0]]
+        told += [list(range(size)) + [size], [-1] + list(range(size)), list(range(size)) + [size - 1]]
+    if size > 1:
+        told += [[1, 0], [0, 0, 1], [0, 1, 1], [0, 1, 0], list(range(size))[::-1], [size - 1, 0]]
+    return told
 
 
 def refusal(ask, *given):
